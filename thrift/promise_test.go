@@ -1,0 +1,129 @@
+package thrift_test
+
+import (
+	"slices"
+	"strings"
+	"testing"
+
+	"thrift/api"
+	"thrift/thrift"
+)
+
+var oddNumbers = []int{least, least + 1, -1, 0, 1, 2, 4, 5, 8, 33, 34, 99, 100, 101, 1 << 32, greatest - 1, greatest}
+
+// wantNothing asks that beside an error nothing else comes out.
+func wantNothing(t *testing.T, call string, e api.Errno, nothing bool) {
+	t.Helper()
+	if e < api.OK || e > api.ErrNumber || e != api.OK && !nothing {
+		t.Errorf("P1: %s answers %d with more beside it, or no error at all", call, e)
+	}
+}
+
+func callAll(t *testing.T, g nodes, a, b int) {
+	t.Helper()
+	text, e := thrift.Print(g)
+	wantNothing(t, "Print", e, text == "")
+	cost, e := thrift.Cost(g)
+	wantNothing(t, "Cost", e, cost == 0)
+	m, e := thrift.Run(g, []api.Matrix{{Rows: a, Cols: b, Numbers: []int{1}}})
+	wantNothing(t, "Run", e, m.Rows == 0 && m.Cols == 0 && len(m.Numbers) == 0)
+	out, e := thrift.Step(g, a, b)
+	wantNothing(t, "Step", e, len(out) == 0)
+	places, e := thrift.Join([]api.Term{{Op: a, K: b, A: a, B: b}}, []api.Pair{{A: a, B: b}})
+	wantNothing(t, "Join", e, len(places) == 0)
+	out, note, e := thrift.Optimise(g, a, b)
+	wantNothing(t, "Optimise", e, len(out) == 0 && note == api.Note{})
+}
+
+func TestAnyNumbers(t *testing.T) {
+	for _, a := range oddNumbers {
+		for _, b := range oddNumbers {
+			for op := -1; op <= 9; op++ {
+				callAll(t, nodes{in(0, 1, 1), {Op: op, A: a, B: b, K: a, Rows: b, Cols: a}}, a, b)
+				callAll(t, nodes{{Op: op, A: a, B: a, K: b, Rows: 1, Cols: 1}, turn(0, 1, 1)}, a, b)
+			}
+			callAll(t, nil, a, b)
+		}
+	}
+	callAll(t, make(nodes, 5000000), 1, 1)
+}
+
+func TestAnyTexts(t *testing.T) {
+	r := fixed()
+	for range 20000 {
+		text := make([]byte, r.IntN(60))
+		for i := range text {
+			text[i] = pick(r, byte(r.IntN(256)), ' ', '\n', '0', '1', 'i', 'n', '-')
+		}
+		g, line, e := thrift.Read(string(text))
+		if e != api.OK && len(g) > 0 || e == api.OK && (line != 0 || !isGraph(g)) || line < 0 || line > len(text) {
+			t.Fatalf("P1: Read(%q) = %v, %d, %d", text, g, line, e)
+		}
+	}
+	for _, part := range []string{"x", "\n", " ", "\x00", "\xff", "-", "0", "9", "in ", "in 0 1 1\n", "turn 0\n"} {
+		for _, length := range []int{1, 99, 100, 101, 3999, 4000, 4001, 5000000} {
+			text := strings.Repeat(part, length)
+			g, line, e := thrift.Read(text)
+			if long := len(text) > api.MaxText; long != (e == api.ErrLong) || long && (line != 0 || g != nil) {
+				t.Errorf("P1: Read of %d times %q = %v, %d, %d", length, part, g, line, e)
+			}
+		}
+	}
+}
+
+// TestFirstError: the error that is named first is the answer, where several apply.
+func TestFirstError(t *testing.T) {
+	wantRefused(t, strings.Repeat("turn 0\nx\n", 1000), 0, api.ErrLong)
+	wantRefused(t, strings.Repeat("in 9 9 9\n", 101), 100, api.ErrSyntax)
+	wantRefused(t, "turn 9\nin 9 9 9\nturn\nin", 2, api.ErrSyntax)
+	wantRefused(t, "turn 9\nin 9 9 9\nturn 2", 0, api.ErrShape)
+}
+
+func TestArgumentsStay(t *testing.T) {
+	r := fixed()
+	for range 2000 {
+		g := anyGraph(r, 2+r.IntN(20))
+		if r.IntN(3) == 0 {
+			g[r.IntN(len(g))].Rows++
+		}
+		whole, part := slices.Clone(g), g[:1+r.IntN(len(g)-1)]
+		thrift.Print(part)
+		thrift.Cost(part)
+		if !slices.Equal(g, whole) {
+			t.Fatalf("P2: %v became %v", whole, g)
+		}
+	}
+}
+
+func TestAnswersAreNew(t *testing.T) {
+	texts := []string{"in 0 1 1\nturn 0", "in 0 1 1\nturn 0\n", "in 3 2 2\nadd 0 0\nmul 0 1\n", strings.Repeat("in 0 1 1\n", 100)}
+	var answers, want []nodes
+	for range 3 {
+		for _, text := range texts {
+			g, _, _ := thrift.Read(text)
+			answers, want = append(answers, g), append(want, slices.Clone(g))
+		}
+	}
+	for i, g := range answers {
+		for j := range g[:cap(g)] {
+			g[:cap(g)][j] = api.Node{Op: -1}
+		}
+		for j := i + 1; j < len(answers); j++ {
+			if !slices.Equal(answers[j], want[j]) {
+				t.Fatalf("P2: answer %d was changed through answer %d", j, i)
+			}
+		}
+		wantRead(t, texts[i%len(texts)], want[i])
+	}
+}
+
+func TestArgumentsAreNotKept(t *testing.T) {
+	g := nodes{in(0, 2, 2), scale(3, 0, 2, 2)}
+	text, _ := thrift.Print(g)
+	g[1] = fill(9, 1, 1)
+	wantPrint(t, g, "in 0 2 2\nfill 9 1 1\n")
+	wantCost(t, g, 1)
+	if text != "in 0 2 2\nscale 3 0\n" {
+		t.Errorf("P2: a text that came out became %q", text)
+	}
+}

@@ -1,0 +1,43 @@
+// Package thrift: the same sums for less: see DOC.md.
+package thrift
+
+import (
+	"thrift/api"
+	"thrift/graphs"
+	"thrift/texts"
+)
+
+// Read reads a graph's text (P3).
+func Read(text string) ([]api.Node, int, api.Errno) {
+	return texts.Read(text)
+}
+
+// Print writes one (P4).
+func Print(graph []api.Node) (string, api.Errno) {
+	if !graphs.IsGraph(graph) {
+		return "", api.ErrGraph
+	}
+	return texts.Print(graph), api.OK
+}
+
+// Cost tells what a graph costs (P4).
+func Cost(graph []api.Node) (int, api.Errno) {
+	if !graphs.IsGraph(graph) {
+		return 0, api.ErrGraph
+	}
+	return graphs.Cost(graph), api.OK
+}
+
+// Run tells what a graph gives (P5).
+func Run(graph []api.Node, inputs []api.Matrix) (api.Matrix, api.Errno) { return api.Matrix{}, api.OK }
+
+// Step applies a rule at a node (P6).
+func Step(graph []api.Node, rule int, at int) ([]api.Node, api.Errno) { return nil, api.OK }
+
+// Join tells which terms are the same (P7).
+func Join(terms []api.Term, pairs []api.Pair) ([]int, api.Errno) { return nil, api.OK }
+
+// Optimise finds a graph that costs least (P8).
+func Optimise(graph []api.Node, rounds int, room int) ([]api.Node, api.Note, api.Errno) {
+	return nil, api.Note{}, api.OK
+}
