@@ -1,4 +1,4 @@
-// Package graphs: which nodes make a graph, and what it costs.
+// Package graphs: which nodes make a graph, what it costs and what it gives.
 package graphs
 
 import (
@@ -18,7 +18,7 @@ func (b *Builder) Add(said api.Node) bool {
 	if !ok || !b.hasParts(kind, said) {
 		return false
 	}
-	shape, ok := kind.Shape(look(b.Nodes, kind, said))
+	shape, ok := kind.Shape(kind.Look(b.Nodes, said))
 	if !ok || said.Op == api.In && !b.keepInput(said.K, shape) {
 		return false
 	}
@@ -44,17 +44,6 @@ func (b *Builder) keepInput(k int, shape ops.Shape) bool {
 	return b.inputs[k] == shape
 }
 
-func look(nodes []api.Node, kind ops.Kind, node api.Node) ops.Use {
-	use := ops.Use{Node: node}
-	if kind.Uses(ops.A) {
-		use.A = ops.ShapeOf(nodes[node.A])
-	}
-	if kind.Uses(ops.B) {
-		use.B = ops.ShapeOf(nodes[node.B])
-	}
-	return use
-}
-
 // IsGraph tells whether a list of nodes is a graph.
 func IsGraph(nodes []api.Node) bool {
 	if len(nodes) < 1 || len(nodes) > api.MaxNodes {
@@ -76,7 +65,7 @@ func Cost(graph []api.Node) int {
 	trees := make([]int, len(graph))
 	for i, node := range graph {
 		kind, _ := ops.Known(node.Op)
-		sum := kind.Cost(look(graph, kind, node))
+		sum := kind.Cost(kind.Look(graph, node))
 		for _, part := range kind.Parts(node) {
 			sum += trees[part]
 		}

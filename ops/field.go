@@ -74,3 +74,13 @@ func (k Kind) Parts(node api.Node) []int {
 	}
 	return parts
 }
+
+// Moved is the node with its parts in other places: A's is asked for first.
+func (k Kind) Moved(node api.Node, place func(int) int) api.Node {
+	for _, field := range k.Says {
+		if field == A || field == B {
+			node = field.Put(node, place(field.Of(node)))
+		}
+	}
+	return node
+}

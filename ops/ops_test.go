@@ -51,3 +51,39 @@ func TestSaid(t *testing.T) {
 		}
 	}
 }
+
+func TestMoved(t *testing.T) {
+	full := api.Node{Op: api.Sub, A: 1, B: 2, Rows: 4, Cols: 3}
+	var asked []int
+	kind, _ := Known(full.Op)
+	got := kind.Moved(full, func(place int) int {
+		asked = append(asked, place)
+		return place * 10
+	})
+	if want := (api.Node{Op: api.Sub, A: 10, B: 20, Rows: 4, Cols: 3}); got != want || !slices.Equal(asked, []int{1, 2}) {
+		t.Errorf("Moved of %v = %v, asked for %v", full, got, asked)
+	}
+	fill := api.Node{Op: api.Fill, K: 3, Rows: 1, Cols: 1}
+	kind, _ = Known(fill.Op)
+	if got := kind.Moved(fill, func(int) int { return 9 }); got != fill {
+		t.Errorf("Moved of %v = %v", fill, got)
+	}
+}
+
+func TestGives(t *testing.T) {
+	w := Work{
+		Input: api.Matrix{Rows: 2, Cols: 2, Numbers: []int{9, 8, 7, 6}},
+		A:     api.Matrix{Rows: 2, Cols: 2, Numbers: []int{1, 2, 3, 4}},
+		B:     api.Matrix{Rows: 2, Cols: 2, Numbers: []int{10, 20, 30, 40}},
+	}
+	for op, want := range map[int][]int{
+		api.In: {9, 8, 7, 6}, api.Fill: {5, 5, 5, 5}, api.Add: {11, 22, 33, 44}, api.Sub: {-9, -18, -27, -36}, api.Mul: {10, 40, 90, 160},
+		api.Scale: {5, 10, 15, 20}, api.Times: {70, 100, 150, 220}, api.Turn: {1, 3, 2, 4},
+	} {
+		w.Node = api.Node{Op: op, K: 5, Rows: 2, Cols: 2}
+		kind, _ := Known(op)
+		if m := kind.Gives(w); m.Rows != 2 || m.Cols != 2 || !slices.Equal(m.Numbers, want) {
+			t.Errorf("Op %d gives %v, want %v", op, m, want)
+		}
+	}
+}

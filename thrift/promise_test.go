@@ -48,6 +48,28 @@ func TestAnyNumbers(t *testing.T) {
 	callAll(t, make(nodes, 5000000), 1, 1)
 }
 
+// TestAnyGraphsAndNumbers calls with graphs that are right, and numbers that are not.
+func TestAnyGraphsAndNumbers(t *testing.T) {
+	r := fixed()
+	for range 20 {
+		g := anyGraph(r, 1+r.IntN(12))
+		for _, a := range oddNumbers {
+			for _, b := range oddNumbers {
+				callAll(t, g, a, b)
+			}
+		}
+	}
+	deep := nodes{in(0, 1, 1)}
+	for len(deep) < 100 {
+		deep = append(deep, two(api.Add, len(deep)-1, len(deep)-1, 1, 1))
+	}
+	for rule := -1; rule <= 35; rule++ {
+		for at := -1; at <= 101; at++ {
+			callAll(t, deep, rule, at)
+		}
+	}
+}
+
 func TestAnyTexts(t *testing.T) {
 	r := fixed()
 	for range 20000 {
@@ -87,10 +109,83 @@ func TestArgumentsStay(t *testing.T) {
 			g[r.IntN(len(g))].Rows++
 		}
 		whole, part := slices.Clone(g), g[:1+r.IntN(len(g)-1)]
+		inputs := anyInputs(r, part)
+		were := cloneMatrices(inputs)
 		thrift.Print(part)
 		thrift.Cost(part)
-		if !slices.Equal(g, whole) {
-			t.Fatalf("P2: %v became %v", whole, g)
+		thrift.Run(part, inputs[:r.IntN(len(inputs)+1)])
+		for rule := range 35 {
+			thrift.Step(part, rule, r.IntN(len(part)))
+		}
+		if !slices.Equal(g, whole) || !slices.EqualFunc(inputs, were, sameMatrix) {
+			t.Fatalf("P2: %v became %v, %v became %v", whole, g, were, inputs)
+		}
+	}
+}
+
+func cloneMatrices(list []api.Matrix) []api.Matrix {
+	list = slices.Clone(list)
+	for i := range list {
+		list[i].Numbers = slices.Clone(list[i].Numbers)
+	}
+	return list
+}
+
+// spoil writes into all of a list, and into its spare room.
+func spoil[T any](list []T, with T) {
+	for i := range list[:cap(list)] {
+		list[:cap(list)][i] = with
+	}
+}
+
+// TestRunAnswersAreNew writes into what Run answers, and asks that nothing else is changed by it.
+func TestRunAnswersAreNew(t *testing.T) {
+	r := fixed()
+	for range 1000 {
+		g := anyGraph(r, 1+r.IntN(5))
+		if r.IntN(3) == 0 {
+			g = nodes{in(0, 2, 2)}
+		}
+		inputs := anyInputs(r, g)
+		were := cloneMatrices(inputs)
+		m, _ := thrift.Run(g, inputs)
+		other, _ := thrift.Run(g, inputs)
+		want := cloneMatrices([]api.Matrix{m})[0]
+		spoil(m.Numbers, -77)
+		again, _ := thrift.Run(g, inputs)
+		if !sameMatrix(other, want) || !sameMatrix(again, want) || !slices.EqualFunc(inputs, were, sameMatrix) {
+			t.Fatalf("P2: writing into what Run(%v) answered changed %v, %v or %v, want %v", g, other, again, inputs, want)
+		}
+		for i := range inputs {
+			spoil(inputs[i].Numbers, -78)
+		}
+		if !sameMatrix(other, want) {
+			t.Fatalf("P2: writing into the inputs of Run(%v) changed its answer %v to %v", g, want, other)
+		}
+	}
+}
+
+// TestStepAnswersAreNew does so for Step.
+func TestStepAnswersAreNew(t *testing.T) {
+	r := fixed()
+	for range 300 {
+		g := anyGraph(r, 2+r.IntN(8))
+		whole := slices.Clone(g)
+		for rule := 1; rule <= 33; rule++ {
+			at := r.IntN(len(g))
+			x, _ := thrift.Step(g, rule, at)
+			other, _ := thrift.Step(g, rule, at)
+			want := slices.Clone(x)
+			spoil(x, api.Node{Op: -1})
+			again, _ := thrift.Step(g, rule, at)
+			if !slices.Equal(other, want) || !slices.Equal(again, want) || !slices.Equal(g, whole) {
+				t.Fatalf("P2: writing into what Step(%v, %d, %d) answered changed %v, %v or %v, want %v", whole, rule, at, other, again, g, want)
+			}
+			spoil(g, api.Node{Op: -2})
+			if !slices.Equal(other, want) {
+				t.Fatalf("P2: writing into the graph of Step(%v, %d, %d) changed its answer %v to %v", whole, rule, at, want, other)
+			}
+			copy(g, whole)
 		}
 	}
 }
@@ -105,9 +200,7 @@ func TestAnswersAreNew(t *testing.T) {
 		}
 	}
 	for i, g := range answers {
-		for j := range g[:cap(g)] {
-			g[:cap(g)][j] = api.Node{Op: -1}
-		}
+		spoil(g, api.Node{Op: -1})
 		for j := i + 1; j < len(answers); j++ {
 			if !slices.Equal(answers[j], want[j]) {
 				t.Fatalf("P2: answer %d was changed through answer %d", j, i)
@@ -123,6 +216,11 @@ func TestArgumentsAreNotKept(t *testing.T) {
 	g[1] = fill(9, 1, 1)
 	wantPrint(t, g, "in 0 2 2\nfill 9 1 1\n")
 	wantCost(t, g, 1)
+	wantRun(t, g, matrix(1, 1, 9), matrix(2, 2, 1, 2, 3, 4))
+	g[0], g[1] = in(0, 1, 1), scale(1, 0, 1, 1)
+	if x, e := thrift.Step(g, 11, 1); !slices.Equal(x, g[:1]) || e != api.OK {
+		t.Errorf("P2: Step of a list that had held another graph = %v, %d", x, e)
+	}
 	if text != "in 0 2 2\nscale 3 0\n" {
 		t.Errorf("P2: a text that came out became %q", text)
 	}

@@ -4,6 +4,8 @@ package thrift
 import (
 	"thrift/api"
 	"thrift/graphs"
+	"thrift/rules"
+	"thrift/steps"
 	"thrift/texts"
 )
 
@@ -29,10 +31,35 @@ func Cost(graph []api.Node) (int, api.Errno) {
 }
 
 // Run tells what a graph gives (P5).
-func Run(graph []api.Node, inputs []api.Matrix) (api.Matrix, api.Errno) { return api.Matrix{}, api.OK }
+func Run(graph []api.Node, inputs []api.Matrix) (api.Matrix, api.Errno) {
+	if !graphs.IsGraph(graph) {
+		return api.Matrix{}, api.ErrGraph
+	}
+	given, ok := graphs.Run(graph, inputs)
+	if !ok {
+		return api.Matrix{}, api.ErrInput
+	}
+	return given, api.OK
+}
 
 // Step applies a rule at a node (P6).
-func Step(graph []api.Node, rule int, at int) ([]api.Node, api.Errno) { return nil, api.OK }
+func Step(graph []api.Node, rule int, at int) ([]api.Node, api.Errno) {
+	if !graphs.IsGraph(graph) {
+		return nil, api.ErrGraph
+	}
+	sides, ok := rules.Numbered(rule)
+	if !ok || at < 0 || at >= len(graph) {
+		return nil, api.ErrRule
+	}
+	after, ok := steps.Apply(graph, sides, at)
+	if !ok {
+		return nil, api.ErrRule
+	}
+	if len(after) > api.MaxNodes {
+		return nil, api.ErrLong
+	}
+	return after, api.OK
+}
 
 // Join tells which terms are the same (P7).
 func Join(terms []api.Term, pairs []api.Pair) ([]int, api.Errno) { return nil, api.OK }
