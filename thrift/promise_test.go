@@ -29,8 +29,6 @@ func callAll(t *testing.T, g nodes, a, b int) {
 	wantNothing(t, "Run", e, m.Rows == 0 && m.Cols == 0 && len(m.Numbers) == 0)
 	out, e := thrift.Step(g, a, b)
 	wantNothing(t, "Step", e, len(out) == 0)
-	places, e := thrift.Join([]api.Term{{Op: a, K: b, A: a, B: b}}, []api.Pair{{A: a, B: b}})
-	wantNothing(t, "Join", e, len(places) == 0)
 	out, note, e := thrift.Optimise(g, a, b)
 	wantNothing(t, "Optimise", e, len(out) == 0 && note == api.Note{})
 }
@@ -46,6 +44,23 @@ func TestAnyNumbers(t *testing.T) {
 		}
 	}
 	callAll(t, make(nodes, 5000000), 1, 1)
+}
+
+func TestJoinAnyNumbers(t *testing.T) {
+	for _, a := range oddNumbers {
+		for _, b := range oddNumbers {
+			many := slices.Repeat(terms{leaf(b)}, max(0, min(a, 300)))
+			for _, list := range []terms{nil, {{Op: a, K: b, A: a, B: b}}, {leaf(b), {Op: a, K: b, A: b, B: a}}, many, make(terms, len(many))} {
+				for _, same := range []pairs{nil, {{A: a, B: b}}, {{}, {A: b}, {B: a}}, make(pairs, len(many))} {
+					places, e := thrift.Join(list, same)
+					wantNothing(t, "Join", e, len(places) == 0)
+					if e != api.OK && e != api.ErrNumber || e == api.OK && len(places) != len(list) {
+						t.Errorf("P7: Join(%v, %v) = %v, %d", list, same, places, e)
+					}
+				}
+			}
+		}
+	}
 }
 
 // TestAnyGraphsAndNumbers calls with graphs that are right, and numbers that are not.
@@ -187,6 +202,48 @@ func TestStepAnswersAreNew(t *testing.T) {
 			}
 			copy(g, whole)
 		}
+	}
+}
+
+func TestJoinArgumentsStay(t *testing.T) {
+	r := fixed()
+	for range 2000 {
+		count := 2 + r.IntN(20)
+		list, same := anyTerms(r, count), anyPairs(r, count, 1+r.IntN(5))
+		if r.IntN(3) == 0 {
+			list[r.IntN(count)].A = pick(r, oddNumbers...)
+			same[r.IntN(len(same))].B = pick(r, oddNumbers...)
+		}
+		wereTerms, werePairs := slices.Clone(list), slices.Clone(same)
+		thrift.Join(list, same)
+		thrift.Join(list[:1+r.IntN(count)], same[:r.IntN(len(same))])
+		if !slices.Equal(list, wereTerms) || !slices.Equal(same, werePairs) {
+			t.Fatalf("P2: Join made of %v, %v: %v, %v", wereTerms, werePairs, list, same)
+		}
+	}
+}
+
+// TestJoinAnswersAreNew writes into what Join answers and into what it was given, and asks that nothing else is changed by it.
+func TestJoinAnswersAreNew(t *testing.T) {
+	r := fixed()
+	for range 1000 {
+		count := 1 + r.IntN(20)
+		list, same := anyTerms(r, count), anyPairs(r, count, r.IntN(5))
+		wereTerms, werePairs := slices.Clone(list), slices.Clone(same)
+		places, _ := thrift.Join(list, same)
+		other, _ := thrift.Join(list, same)
+		want := slices.Clone(places)
+		spoil(places, -77)
+		again, _ := thrift.Join(list, same)
+		if !slices.Equal(other, want) || !slices.Equal(again, want) || !slices.Equal(list, wereTerms) || !slices.Equal(same, werePairs) {
+			t.Fatalf("P2: writing into what Join(%v, %v) answered changed %v, %v or what it was given, want %v", wereTerms, werePairs, other, again, want)
+		}
+		spoil(list, leaf(-78))
+		spoil(same, api.Pair{A: -79})
+		if !slices.Equal(other, want) {
+			t.Fatalf("P2: writing into what Join(%v, %v) was given changed its answer %v to %v", wereTerms, werePairs, want, other)
+		}
+		wantJoin(t, list[:1], nil, 0)
 	}
 }
 

@@ -4,6 +4,7 @@ package thrift
 import (
 	"thrift/api"
 	"thrift/graphs"
+	"thrift/joins"
 	"thrift/rules"
 	"thrift/steps"
 	"thrift/texts"
@@ -62,7 +63,12 @@ func Step(graph []api.Node, rule int, at int) ([]api.Node, api.Errno) {
 }
 
 // Join tells which terms are the same (P7).
-func Join(terms []api.Term, pairs []api.Pair) ([]int, api.Errno) { return nil, api.OK }
+func Join(terms []api.Term, pairs []api.Pair) ([]int, api.Errno) {
+	if !joins.MayBe(terms, pairs) {
+		return nil, api.ErrNumber
+	}
+	return joins.Join(terms, pairs), api.OK
+}
 
 // Optimise finds a graph that costs least (P8).
 func Optimise(graph []api.Node, rounds int, room int) ([]api.Node, api.Note, api.Errno) {
