@@ -13,6 +13,13 @@ func NewForest(places int) Forest {
 	return forest
 }
 
+// Grow adds a place that is not the same as another, and tells it.
+func (f *Forest) Grow() int {
+	place := len(*f)
+	*f = append(*f, place)
+	return place
+}
+
 // Root tells the least place that is the same as this one.
 func (f Forest) Root(place int) int {
 	for f[place] != place {

@@ -36,13 +36,18 @@ func isPlace(place, places int) bool {
 	return place >= 0 && place < places
 }
 
+func moved(term api.Term, place func(int) int) api.Term {
+	term.A, term.B = place(term.A), place(term.B)
+	return term
+}
+
 // Join tells for each term the least place of those that are the same.
 func Join(terms []api.Term, pairs []api.Pair) []int {
 	forest := classes.NewForest(len(terms))
 	for _, pair := range pairs {
 		forest.Join(pair.A, pair.B)
 	}
-	table := classes.NewTable(forest)
+	table := classes.NewTable(&forest, moved)
 	for place, term := range terms {
 		table.Put(term, place)
 	}

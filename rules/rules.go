@@ -10,6 +10,12 @@ func Numbered(number int) (Rule, bool) {
 	return table()[number], true
 }
 
+// All are the rules, in the order of their numbers.
+func All() []Rule {
+	list := table()
+	return list[1:]
+}
+
 // table is the document's, at the same numbers. It stands in a function, since its sides are too many for package level.
 func table() [api.MaxRules + 1]Rule {
 	a, b, c := Side{Tree: nameA}, Side{Tree: nameB}, Side{Tree: nameC}

@@ -1,6 +1,7 @@
 package rules
 
 import (
+	"reflect"
 	"slices"
 	"testing"
 
@@ -18,6 +19,18 @@ func TestNumbered(t *testing.T) {
 	for _, number := range []int{0, -1, api.MaxRules + 1, -1 << 63, 1<<63 - 1} {
 		if rule, ok := Numbered(number); ok || rule.Left.Op != 0 {
 			t.Errorf("rule %d is %v, %v", number, rule, ok)
+		}
+	}
+}
+
+func TestAll(t *testing.T) {
+	list := All()
+	if len(list) != api.MaxRules {
+		t.Fatalf("there are %d rules", len(list))
+	}
+	for i, rule := range list {
+		if numbered, _ := Numbered(i + 1); !reflect.DeepEqual(rule, numbered) {
+			t.Errorf("rule %d is %v, want %v", i+1, rule, numbered)
 		}
 	}
 }

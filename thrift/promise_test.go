@@ -132,6 +132,7 @@ func TestArgumentsStay(t *testing.T) {
 		for rule := range 35 {
 			thrift.Step(part, rule, r.IntN(len(part)))
 		}
+		thrift.Optimise(part, r.IntN(4), 1+r.IntN(100))
 		if !slices.Equal(g, whole) || !slices.EqualFunc(inputs, were, sameMatrix) {
 			t.Fatalf("P2: %v became %v, %v became %v", whole, g, were, inputs)
 		}
@@ -201,6 +202,32 @@ func TestStepAnswersAreNew(t *testing.T) {
 				t.Fatalf("P2: writing into the graph of Step(%v, %d, %d) changed its answer %v to %v", whole, rule, at, want, other)
 			}
 			copy(g, whole)
+		}
+	}
+}
+
+// TestOptimiseAnswersAreNew does so for Optimise, also where the answer is the graph as it was.
+func TestOptimiseAnswersAreNew(t *testing.T) {
+	r, rules := fixed(), writtenRules()
+	for i := range 500 {
+		g := anyLeft(r, rules)
+		if i%3 == 0 {
+			g = laidOut(grown(g, len(g)-1, 0, nil))
+		}
+		g = append(make(nodes, 0, len(g)+5), g...)
+		whole := slices.Clone(g)
+		rounds, room := r.IntN(4), pick(r, 1, 8, 100)
+		x, _, _ := thrift.Optimise(g, rounds, room)
+		other, _, _ := thrift.Optimise(g, rounds, room)
+		want := slices.Clone(x)
+		spoil(x, api.Node{Op: -1})
+		again, _, _ := thrift.Optimise(g, rounds, room)
+		if !slices.Equal(other, want) || !slices.Equal(again, want) || !slices.Equal(g, whole) {
+			t.Fatalf("P2: writing into what Optimise(%v, %d, %d) answered changed %v, %v or %v, want %v", whole, rounds, room, other, again, g, want)
+		}
+		spoil(g, api.Node{Op: -2})
+		if !slices.Equal(other, want) {
+			t.Fatalf("P2: writing into the graph of Optimise(%v, %d, %d) changed its answer %v to %v", whole, rounds, room, want, other)
 		}
 	}
 }
@@ -277,6 +304,9 @@ func TestArgumentsAreNotKept(t *testing.T) {
 	g[0], g[1] = in(0, 1, 1), scale(1, 0, 1, 1)
 	if x, e := thrift.Step(g, 11, 1); !slices.Equal(x, g[:1]) || e != api.OK {
 		t.Errorf("P2: Step of a list that had held another graph = %v, %d", x, e)
+	}
+	if x, note, e := thrift.Optimise(g, 1, 9); !slices.Equal(x, g[:1]) || note != (api.Note{Before: 1, Rounds: 1, Count: 2}) || e != api.OK {
+		t.Errorf("P2: Optimise of a list that had held another graph = %v, %+v, %d", x, note, e)
 	}
 	if text != "in 0 2 2\nscale 3 0\n" {
 		t.Errorf("P2: a text that came out became %q", text)

@@ -3,6 +3,7 @@ package thrift
 
 import (
 	"thrift/api"
+	"thrift/books"
 	"thrift/graphs"
 	"thrift/joins"
 	"thrift/rules"
@@ -72,5 +73,12 @@ func Join(terms []api.Term, pairs []api.Pair) ([]int, api.Errno) {
 
 // Optimise finds a graph that costs least (P8).
 func Optimise(graph []api.Node, rounds int, room int) ([]api.Node, api.Note, api.Errno) {
-	return nil, api.Note{}, api.OK
+	if !graphs.IsGraph(graph) {
+		return nil, api.Note{}, api.ErrGraph
+	}
+	if rounds < 0 || rounds > api.MaxRounds || room < 1 || room > api.MaxRoom {
+		return nil, api.Note{}, api.ErrNumber
+	}
+	after, note := books.Optimise(graph, rounds, room)
+	return after, note, api.OK
 }

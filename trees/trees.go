@@ -19,22 +19,33 @@ func New() *Store {
 
 // Put takes what a node's line says, and keeps the node with its shape, if it is not there; it tells its place.
 func (s *Store) Put(said api.Node) int {
-	kind, _ := ops.Known(said.Op)
-	// The nodes of graphs, and what rules make of them, go together: there is always a shape.
-	shape, _ := kind.Shape(kind.Look(s.Nodes, said))
-	said.Rows, said.Cols = shape.Rows, shape.Cols
-	place, ok := s.places[said]
+	node := Shaped(s.Nodes, said)
+	place, ok := s.places[node]
 	if !ok {
 		place = len(s.Nodes)
-		s.places[said] = place
-		s.Nodes = append(s.Nodes, said)
+		s.places[node] = place
+		s.Nodes = append(s.Nodes, node)
 	}
 	return place
 }
 
 // LayOut makes a graph of a tree: each different tree in it once, in the order in which they end.
 func (s *Store) LayOut(last int) []api.Node {
-	l := layout{nodes: s.Nodes, ends: make([]int, len(s.Nodes))}
+	return LayOut(s.Nodes, last)
+}
+
+// Shaped is what a node's line says with the shape that it has by its parts, whose places are in that list.
+func Shaped(nodes []api.Node, said api.Node) api.Node {
+	kind, _ := ops.Known(said.Op)
+	// The nodes of graphs, and what rules make of them, go together: there is always a shape.
+	shape, _ := kind.Shape(kind.Look(nodes, said))
+	said.Rows, said.Cols = shape.Rows, shape.Cols
+	return said
+}
+
+// LayOut makes a graph of the tree in a place of a list: each place that it uses once, in the order in which their trees end.
+func LayOut(nodes []api.Node, last int) []api.Node {
+	l := layout{nodes: nodes, ends: make([]int, len(nodes))}
 	l.end(last)
 	return l.graph
 }
@@ -42,7 +53,7 @@ func (s *Store) LayOut(last int) []api.Node {
 type layout struct {
 	nodes []api.Node
 	graph []api.Node
-	ends  []int // the length of the graph when a tree had ended; 0: it has not
+	ends  []int // by place: the length of the graph when its tree had ended; 0: it has not
 }
 
 // end tells the place in the graph of a tree.

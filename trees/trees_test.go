@@ -45,3 +45,17 @@ func TestLayOut(t *testing.T) {
 		}
 	}
 }
+
+// TestLayOutList: of a list in any order, in which a place may stand behind those that use it.
+func TestLayOutList(t *testing.T) {
+	list := []api.Node{
+		{Op: api.Sub, A: 3, B: 2, Rows: 1, Cols: 1}, {Op: api.Fill, K: 9, Rows: 1, Cols: 1},
+		{Op: api.In, K: 1, Rows: 1, Cols: 1}, {Op: api.Turn, A: 4, Rows: 1, Cols: 1}, {Op: api.Mul, A: 2, B: 2, Rows: 1, Cols: 1},
+	}
+	want := []api.Node{
+		{Op: api.In, K: 1, Rows: 1, Cols: 1}, {Op: api.Mul, Rows: 1, Cols: 1}, {Op: api.Turn, A: 1, Rows: 1, Cols: 1}, {Op: api.Sub, A: 2, B: 0, Rows: 1, Cols: 1},
+	}
+	if got := LayOut(list, 0); !slices.Equal(got, want) {
+		t.Errorf("LayOut = %v, want %v", got, want)
+	}
+}
